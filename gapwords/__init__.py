@@ -1,0 +1,1 @@
+"""Gapwords: equations between rows of signs with unknowns."""
