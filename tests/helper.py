@@ -1,6 +1,8 @@
-"""What several test files share: the refusal that comes, things of other kinds, and rows of letters."""
+"""What several test files share: the refusal that comes, things of other kinds, rows of letters, dealt systems, and
+answers found by trying all words."""
 
 import itertools
+import re
 
 from gapwords import errors
 
@@ -11,6 +13,7 @@ ALL_TEN = (
 FIELDS = {
     errors.Thrice: ("unknown", "equation", "side", "place"),
     errors.TooGreat: ("many", "most"),
+    errors.NoWay: ("at",),
 }
 
 
@@ -54,3 +57,115 @@ def rows(letters, longest):
     for length in range(longest + 1):
         for row in itertools.product(letters, repeat=length):
             yield "".join(row)
+
+
+def kinds_within(told):
+    """The classes of which a told thing is made, itself and all within its tuples."""
+    kinds = {type(told)}
+    if isinstance(told, tuple):
+        for part in told:
+            kinds |= kinds_within(part)
+    return kinds
+
+
+def filled_by_search(side, names, words):
+    """A side filled, told another way than the program does."""
+    return re.sub("[A-Z]", lambda found: words[names.index(found.group())], side)
+
+
+def is_answer(equations, names, words):
+    """Whether words, one for each name, make the sides of all equations alike."""
+    return all(filled_by_search(left, names, words) == filled_by_search(right, names, words)
+               for left, right in equations)
+
+
+def unknowns_of(system):
+    """The unknowns of a system, each once, rising."""
+    return "".join(sorted(set(re.findall("[A-Z]", str(system)))))
+
+
+def fillings(names, signs, most):
+    """All tuples of words of these signs, one for each name, of at most so many signs together, in order."""
+    tuples = [()]
+    for _ in names:
+        tuples = [ahead + (word,) for ahead in tuples for word in rows(signs, most - len("".join(ahead)))]
+    return sorted(tuples, key=lambda words: (len("".join(words)), words))
+
+
+def answers_by_trying(system, signs, most):
+    """All answers of a system with words of these signs, of at most so many signs together, in order."""
+    names = unknowns_of(system)
+    return tuple(words for words in fillings(names, signs, most) if is_answer(system, names, words))
+
+
+class Dealer:
+    """Deals whole numbers out of a row that is the same each time."""
+
+    def __init__(self, start):
+        self.state = start
+
+    def below(self, bound):
+        self.state = (self.state * 6364136223846793005 + 1442695040888963407) % 2 ** 64
+        return (self.state >> 33) % bound
+
+    def pick(self, row):
+        return row[self.below(len(row))]
+
+    def word(self, signs, longest):
+        return "".join(self.pick(signs) for _ in range(self.below(longest + 1)))
+
+
+def dealt_system(dealer, many, names, signs, longest):
+    """A system of so many equations with sides up to a length; each unknown stands at most twice."""
+    left = {name: 2 for name in names}
+    sides = []
+    for _ in range(2 * many):
+        side = ""
+        for _ in range(dealer.below(longest + 1)):
+            letters = signs + "".join(name for name in names if left[name] > 0)
+            letter = dealer.pick(letters) if letters else ""
+            if letter in left:
+                left[letter] -= 1
+            side += letter
+        sides.append(side)
+    return tuple(zip(sides[::2], sides[1::2]))
+
+
+def side_for(dealer, row, word_of, left):
+    """A side which, filled, is this row of signs: dealt out of signs and of unknowns that are left."""
+    side = ""
+    while True:
+        able = [name for name in sorted(left) if left[name] > 0 and row.startswith(word_of[name])]
+        if able and dealer.below(3) > 0:
+            name = dealer.pick(able)
+            left[name] -= 1
+            side += name
+            row = row[len(word_of[name]):]
+        elif row:
+            side += row[0]
+            row = row[1:]
+        else:
+            return side
+
+
+def dealt_with_answer(dealer, many, names, signs, longest):
+    """A system of so many equations, with words that are an answer of it."""
+    word_of = {name: dealer.word(signs, longest) for name in names}
+    left = {name: 2 for name in names}
+    equations = []
+    for _ in range(many):
+        row = dealer.word(signs, longest) + "".join(word_of[dealer.pick(names)] for _ in range(dealer.below(3)))
+        equations.append((side_for(dealer, row, word_of, left), side_for(dealer, row, word_of, left)))
+    system = tuple(equations)
+    return (system, tuple(word_of[name] for name in unknowns_of(system)))
+
+
+def changed_words(words, signs):
+    """The words with one sign of one of them put in, left out or exchanged."""
+    for number, word in enumerate(words):
+        others = [word[:place] + sign + word[place:] for place in range(len(word) + 1) for sign in signs]
+        others += [word[:place] + word[place + 1:] for place in range(len(word))]
+        others += [word[:place] + sign + word[place + 1:] for place in range(len(word)) for sign in signs
+                   if sign != word[place]]
+        for other in others:
+            yield words[:number] + (other,) + words[number + 1:]
