@@ -2,6 +2,7 @@
 answers found by trying all words."""
 
 import itertools
+import os.path
 import re
 
 from gapwords import errors
@@ -15,6 +16,9 @@ FIELDS = {
     errors.TooGreat: ("many", "most"),
     errors.NoWay: ("at",),
 }
+# Both have answers; the net of the one is just as great as is taken where most is left out.
+OF_500_ROOMS = (("ZAA", "bXBXY"),)
+OF_501_ROOMS = (("ZZXY", "bB"), ("aYX", "AB"))
 
 
 class Sullen:
@@ -169,3 +173,88 @@ def changed_words(words, signs):
                    if sign != word[place]]
         for other in others:
             yield words[:number] + (other,) + words[number + 1:]
+
+
+def stripped_by_prefix(equations):
+    """Equations stripped, by Python's own common beginning of two texts."""
+    told = []
+    for left, right in equations:
+        many = len(os.path.commonprefix([left, right]))
+        if left[many:] or right[many:]:
+            told.append((left[many:], right[many:]))
+    return tuple(told)
+
+
+def dead_by_search(room):
+    """Whether a room is dead, by patterns."""
+    both = [left + "=" + right for left, right in room[1]]
+    return any(re.search(r"^[a-z].*=[a-z]|^=.*[a-z]|[a-z].*=$", row) for row in both)
+
+
+def steps_by_search(room):
+    """The steps of a room, by patterns."""
+    if not room[1] or dead_by_search(room):
+        return ()
+    p, q = re.fullmatch(r"(.?).*=(.?).*", "=".join(room[1][0])).groups()
+    if not p or not q:
+        return (("none", p or q),)
+    if p.isupper() and q.isupper():
+        return (("none", p), ("none", q), ("over", p, q), ("over", q, p))
+    unknown, sign = (p, q) if p.isupper() else (q, p)
+    return (("none", unknown), ("sign", unknown, sign))
+
+
+def behind_by_search(room, step):
+    """The room behind a step, by a pattern."""
+    instead = "" if step[0] == "none" else step[2] + step[1]
+    names = "".join(name for name in room[0] if step[0] != "none" or name != step[1])
+    return (names, stripped_by_prefix([[re.sub(step[1], instead, side) for side in sides] for sides in room[1]]))
+
+
+def net_by_search(system):
+    """The net of a system, told another way: each room's number is looked for in a list."""
+    rooms, ways = [(unknowns_of(system), stripped_by_prefix(system))], []
+    for room in rooms:
+        row = []
+        for step in steps_by_search(room):
+            behind = behind_by_search(room, step)
+            if behind not in rooms:
+                rooms.append(behind)
+            row.append((step, rooms.index(behind)))
+        ways.append(tuple(row))
+    return (tuple(rooms), tuple(ways))
+
+
+def small_rooms(longest):
+    """All rooms of one equation with sides of a, b, X and Y up to a length."""
+    for left, right in itertools.product(list(rows("abXY", longest)), repeat=2):
+        if max((left + right).count("X"), (left + right).count("Y")) < 3 and left[:1] != right[:1]:
+            yield ("XY", ((left, right),))
+
+
+def dealt_systems(start, turns):
+    """Systems of many kinds: dealt ones, and such as have an answer; none to four names, one to three equations."""
+    dealer = Dealer(start)
+    for turn in range(turns):
+        yield dealt_system(dealer, 1 + turn % 3, "KXYZ"[:turn % 5], "ab", 4)
+        yield dealt_with_answer(dealer, 1 + turn % 3, "KXYZ"[:1 + turn % 4], "ab", 2)[0]
+
+
+def systems_by_answer(start, turns, most):
+    """The dealt systems of at most so many rooms: those with an ended room, and those without."""
+    systems = {True: [], False: []}
+    for system in dealt_systems(start, turns):
+        if len(few_rooms(system, most)) <= most:
+            systems[any(not room[1] for room in few_rooms(system, most))].append(system)
+    return systems
+
+
+def few_rooms(system, most):
+    """The system's rooms, or most and one more of them."""
+    found = [(unknowns_of(system), stripped_by_prefix(system))]
+    for room in found:
+        for step in steps_by_search(room):
+            behind = behind_by_search(room, step)
+            if behind not in found and len(found) <= most:
+                found.append(behind)
+    return found

@@ -1,37 +1,11 @@
 """Equations stripped, first rooms, ended and dead rooms."""
 
 import itertools
-import os.path
-import re
 import unittest
 
 from gapwords.rooms import first_room, is_dead, is_ended, stripped
-from helper import Dealer, dealt_system, fillings, is_answer, kinds_within, rows, unknowns_of
-
-
-def stripped_by_prefix(equations):
-    """Equations stripped, by Python's own common beginning of two texts."""
-    told = []
-    for left, right in equations:
-        many = len(os.path.commonprefix([left, right]))
-        if left[many:] or right[many:]:
-            told.append((left[many:], right[many:]))
-    return tuple(told)
-
-
-def dead_by_search(room):
-    """Whether a room is dead, by two patterns."""
-    rows_of_both = [left + "=" + right for left, right in room[1]]
-    return any(re.search(r"^[a-z].*=[a-z]|^=.*[a-z]|[a-z].*=$", row) for row in rows_of_both)
-
-
-def small_rooms(longest):
-    """All rooms of one equation with sides of a, b, X and Y up to a length."""
-    sides = [side for side in rows("abXY", longest)]
-    for left, right in itertools.product(sides, repeat=2):
-        if (left + right).count("X") < 3 and (left + right).count("Y") < 3:
-            if left[:1] != right[:1]:
-                yield ("XY", ((left, right),))
+from helper import (Dealer, dead_by_search, dealt_system, fillings, is_answer, kinds_within, rows, small_rooms,
+                    stripped_by_prefix, unknowns_of)
 
 
 class Stripped(unittest.TestCase):
