@@ -1,6 +1,7 @@
 """What several test files share: the refusal that comes, things of other kinds, rows of letters, dealt systems, and
 answers found by trying all words."""
 
+import functools
 import itertools
 import os.path
 import re
@@ -19,6 +20,17 @@ FIELDS = {
 # Both have answers; the net of the one is just as great as is taken where most is left out.
 OF_500_ROOMS = (("ZAA", "bXBXY"),)
 OF_501_ROOMS = (("ZZXY", "bB"), ("aYX", "AB"))
+# The second tells how many a there are, up to two; the third turns round with each b; the last has all 27 kinds.
+MACHINES = (
+    ("a", ((0,),)),
+    ("ab", ((1, 0), (2, 1), (2, 2))),
+    ("ab", ((0, 1), (1, 0))),
+    ("az", ((2, 1), (0, 0), (1, 2))),
+    ("abcd", ((0, 1, 2, 0), (1, 1, 1, 1), (2, 0, 1, 2))),
+    ("q", ((1,), (2,), (0,))),
+    ("wxyz", ((0, 0, 0, 0),)),
+    ("abc", ((1, 1, 0), (2, 0, 1), (0, 2, 1))),
+)
 
 
 class Sullen:
@@ -258,3 +270,90 @@ def few_rooms(system, most):
             if behind not in found and len(found) <= most:
                 found.append(behind)
     return found
+
+
+def room_by_room(machine, room, word):
+    """All rooms through which a word leads, each by a look at the pairs of signs and rooms."""
+    passed = [room]
+    for sign in word:
+        passed.append(dict(zip(machine[0], machine[1][passed[-1]]))[sign])
+    return passed
+
+
+def kind_by_rooms(machine, word):
+    """The kind of a word, told another way."""
+    return tuple(room_by_room(machine, room, word)[-1] for room in range(len(machine[1])))
+
+
+@functools.lru_cache(None)
+def kinds_by_trying(machine):
+    """The kinds with their least words, found by trying all words in order until a length brings no new kind."""
+    found, length, before = {}, 0, -1
+    while len(found) > before:
+        before = len(found)
+        for row in itertools.product(machine[0], repeat=length):
+            word = "".join(row)
+            found.setdefault(kind_by_rooms(machine, word), word)
+        length += 1
+    return tuple(found.items())
+
+
+def fits_by_rooms(machine, goods, words):
+    """Whether words fit, told another way."""
+    return all(set(word) <= set(machine[0]) and room_by_room(machine, 0, word)[-1] in good
+               for good, word in zip(goods, words))
+
+
+def begins_by_product(system, machine, goods):
+    """The begins, by Python's own product."""
+    kinds = [[kind for kind, word in kinds_by_trying(machine) if kind[0] in good] for good in goods]
+    return tuple((unknowns_of(system), stripped_by_prefix(system), row) for row in itertools.product(*kinds))
+
+
+def pairs_by_search(machine, room):
+    """The pairs of a fitted room, by trying each kind for the step's unknown."""
+    names, equations, kinds = room
+    words = dict(kinds_by_trying(machine))
+    pairs = []
+    for step in steps_by_search((names, equations)):
+        kind_by_name = dict(zip(names, kinds))
+        if step[0] == "none":
+            if kind_by_name.pop(step[1]) == tuple(range(len(machine[1]))):
+                pairs.append((step, tuple(kind_by_name[name] for name in names if name in kind_by_name)))
+            continue
+        head = step[2] if step[0] == "sign" else words[kind_by_name[step[2]]]
+        for kind, word in words.items():
+            if kind_by_rooms(machine, head + word) == kinds[names.index(step[1])]:
+                pairs.append((step, tuple((kind_by_name | {step[1]: kind})[name] for name in names)))
+    return tuple(pairs)
+
+
+def fitted_net_by_search(system, machine, goods, most):
+    """The fitted net, told another way; or None where there are more than most rooms."""
+    rooms = list(begins_by_product(system, machine, goods))
+    many, ways = len(rooms), []
+    numbers = {room: number for number, room in enumerate(rooms)}
+    for room in rooms:
+        row = []
+        for step, kinds in pairs_by_search(machine, room):
+            behind = behind_by_search(room[:2], step) + (kinds,)
+            if behind not in numbers:
+                numbers[behind] = len(rooms)
+                rooms.append(behind)
+            row.append((step, numbers[behind]))
+        ways.append(tuple(row))
+        if len(rooms) > most:
+            return None
+    return (tuple(rooms), tuple(ways), many)
+
+
+def fitted_asked(start, turns):
+    """Dealt triples (system, machine, goods), the machine having all the system's signs."""
+    dealer = Dealer(start)
+    able = [machine for machine in MACHINES if set("ab") <= set(machine[0])]
+    for turn, system in enumerate(dealt_systems(start, turns)):
+        machine = able[turn % len(able)]
+        many = len(machine[1])
+        goods = tuple(tuple(room for room in range(many) if dealer.below(8) < 5) for _ in unknowns_of(system))
+        if len(goods) < 4 and (len(goods) < 3 or machine != MACHINES[7]):
+            yield (system, machine, goods)

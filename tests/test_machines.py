@@ -5,26 +5,7 @@ import unittest
 
 from gapwords.errors import NoFit
 from gapwords.machines import is_machine, leads
-from helper import Dealer, refusal_of, rows, things_of_other_kinds
-
-# The second tells how many a there are, up to two; the third turns round with each b.
-MACHINES = (
-    ("a", ((0,),)),
-    ("ab", ((1, 0), (2, 1), (2, 2))),
-    ("ab", ((0, 1), (1, 0))),
-    ("az", ((2, 1), (0, 0), (1, 2))),
-    ("abcd", ((0, 1, 2, 0), (1, 1, 1, 1), (2, 0, 1, 2))),
-    ("q", ((1,), (2,), (0,))),
-    ("wxyz", ((0, 0, 0, 0),)),
-)
-
-
-def room_by_room(machine, room, word):
-    """All rooms through which a word leads, each by a look at the pairs of signs and rooms."""
-    passed = [room]
-    for sign in word:
-        passed.append(dict(zip(machine[0], machine[1][passed[-1]]))[sign])
-    return passed
+from helper import MACHINES, Dealer, refusal_of, room_by_room, rows, things_of_other_kinds
 
 
 class WhatIsAMachine(unittest.TestCase):
