@@ -18,8 +18,9 @@ def explored(starts, leading, most):
     refuse_rooms(len(rooms), most)
     ways = []
     while len(ways) < len(rooms):
+        here = rooms[len(ways)]
         row = []
-        for step, room in leading(rooms[len(ways)]):
+        for step, room in leading(here):
             if room not in numbers:
                 numbers[room] = len(rooms)
                 rooms.append(room)

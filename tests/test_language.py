@@ -24,6 +24,15 @@ FORBIDDEN_FORMS = (
     ast.AsyncFunctionDef, ast.AsyncFor, ast.AsyncWith, ast.Await, ast.SetComp, ast.DictComp, ast.GeneratorExp,
     ast.NamedExpr, ast.Starred, ast.Div, ast.MatMult, ast.AnnAssign,
 )
+LOCAL_WALKS = ("zip", "enumerate", "reversed", "range")
+DICT_WALKS = ("items", "keys", "values")
+TAKING_WALKS = ("list", "tuple", "dict", "sorted", "sum", "any", "all", "enumerate", "zip")
+KEYWORDS = {"sorted": {"key", "reverse"}, "min": {"key", "default"}, "max": {"key", "default"}, "sum": {"start"},
+            "enumerate": {"start"}, "zip": {"strict"}}
+CHANGES = ("append", "clear", "extend", "insert", "pop", "remove", "reverse", "setdefault", "update")
+UNUSED_NAMES = set("""register mro elements open input version_info with_traceback add_note attrgetter breakpoint builtins
+    compile copyright credits delattr dir eval exec exit gc getattr globals hasattr help id importlib license locals
+    methodcaller os quit setattr super vars sys chr""".split())
 TOP_FORMS = (ast.FunctionDef, ast.ClassDef, ast.ImportFrom, ast.Assign, ast.Expr)
 
 
@@ -57,6 +66,35 @@ def drawn_from(stem):
                     found.add(other)
                     ahead.append(other)
     return found
+
+
+def parents(tree):
+    """A dict from each node to the one in which it stands."""
+    return {child: node for node in ast.walk(tree) for child in ast.iter_child_nodes(node)}
+
+
+def called(node):
+    """The name or method that is called, or the text of no signs."""
+    if not isinstance(node, ast.Call):
+        return ""
+    return getattr(node.func, "id", getattr(node.func, "attr", ""))
+
+
+def is_walk(node):
+    """Whether a call makes what is to be walked at once."""
+    by_name = isinstance(node.func, ast.Name) and node.func.id in LOCAL_WALKS
+    return by_name or (isinstance(node.func, ast.Attribute) and node.func.attr in DICT_WALKS)
+
+
+def is_walked_at_once(node, parent):
+    """Whether such a call stands where it is walked on the spot."""
+    if isinstance(parent, (ast.For, ast.comprehension)):
+        return parent.iter is node
+    if not isinstance(parent, ast.Call) or node not in parent.args[:1]:
+        return called(parent) == "zip" and node in parent.args
+    if isinstance(parent.func, ast.Attribute):
+        return parent.func.attr == "join" and isinstance(parent.func.value, ast.Constant)
+    return parent.func.id in TAKING_WALKS or (parent.func.id in ("min", "max") and len(parent.args) == 1)
 
 
 class TheLanguage(unittest.TestCase):
@@ -126,3 +164,56 @@ class TheLanguage(unittest.TestCase):
             self.assertEqual((package, stem in TREES), ("gapwords", True), place)
             for name in node.names:
                 self.assertIn(name.name, names_at_top(TREES[stem]), place)
+
+    def test_walked_at_once(self):
+        for stem, tree in TREES.items():
+            around = parents(tree)
+            for node in ast.walk(tree):
+                if isinstance(node, ast.Call) and is_walk(node):
+                    self.assertTrue(is_walked_at_once(node, around[node]), f"{stem}.py:{node.lineno}")
+                if called(node) in ("set", "frozenset"):
+                    above = around[node]
+                    while isinstance(above, ast.BinOp):
+                        above = around[above]
+                    beside = isinstance(above, ast.Compare) or called(above) in ("sorted", "len")
+                    self.assertTrue(beside, f"{stem}.py:{node.lineno}")
+
+    def test_what_a_loop_walks_is_not_changed(self):
+        for place, node in nodes(ast.For):
+            walked = {name.id for name in ast.walk(node.iter) if isinstance(name, ast.Name)}
+            for inner in [one for part in node.body for one in ast.walk(part)]:
+                if isinstance(inner, ast.Call) and isinstance(inner.func, ast.Attribute) and called(inner) in CHANGES:
+                    self.assertNotIn(getattr(inner.func.value, "id", ""), walked, place)
+                if isinstance(inner, ast.Subscript) and isinstance(inner.ctx, ast.Store):
+                    self.assertNotIn(getattr(inner.value, "id", ""), walked, place)
+
+    def test_keywords_and_defaults(self):
+        for place, node in nodes(ast.Call):
+            for keyword in node.keywords:
+                self.assertIn(keyword.arg, KEYWORDS.get(called(node), ()), place)
+        for place, node in nodes(ast.FunctionDef):
+            for default in node.args.defaults:
+                self.assertIsInstance(default, ast.Constant, place)
+            self.assertIsNone(node.returns, place)
+
+    def test_names_of_locals(self):
+        for stem, tree in TREES.items():
+            taken = {name.name for node in tree.body if isinstance(node, ast.ImportFrom) for name in node.names}
+            taken |= {node.name for node in tree.body if isinstance(node, (ast.ClassDef, ast.FunctionDef))}
+            for node in ast.walk(tree):
+                if isinstance(node, ast.arg):
+                    self.assertNotIn(node.arg, taken, f"{stem}.py:{node.lineno}")
+                if isinstance(node, ast.Name) and isinstance(node.ctx, ast.Store):
+                    self.assertNotIn(node.id, taken, f"{stem}.py:{node.lineno}")
+                word = getattr(node, "id", getattr(node, "attr", getattr(node, "arg", "")))
+                self.assertNotIn(word, UNUSED_NAMES, f"{stem}.py:{getattr(node, 'lineno', 0)}")
+
+    def test_texts_and_powers(self):
+        for place, node in nodes(ast.FormattedValue):
+            self.assertIsInstance(node.value, ast.Name, place)
+            self.assertIn((node.conversion, node.format_spec), ((-1, None), (ord("r"), None)), place)
+        for place, node in nodes(ast.BinOp):
+            if isinstance(node.op, ast.Pow):
+                self.assertIsInstance(node.right, ast.Constant, place)
+        for place, node in nodes(ast.Assign):
+            self.assertNotIsInstance(node.targets[0], (ast.Tuple, ast.List), place)

@@ -69,7 +69,7 @@ class Nets(unittest.TestCase):
         for text in ("=", "aX=Xa", "XY=YX", "abX=Xba", "XaY=YbX", "XabY=YbaX", "aABCb=CBAba", "XX=YaY; Zb=bZ"):
             system = read_system(text)
             net = net_by_search(system)
-            for most in range(1, len(net[0]) + 3):
+            for most in range(len(net[0]) + 3):
                 told = (None, net) if len(net[0]) <= most else (TooGreat, most + 1, most)
                 self.assertEqual(refusal_of(net_of, system, most), told)
 

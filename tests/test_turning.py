@@ -100,6 +100,9 @@ class NotRenamed(unittest.TestCase):
     def test_new_a_sign_or_no_letter(self):
         self.assert_refused(NoName, *[("X", new) for new in "abcxz1 @[=\n"])
 
+    def test_texts_of_none_or_several_letters(self):
+        self.assert_refused(NoName, ("", "A"), ("XY", "A"), ("X", ""), ("X", "AB"), ("X", "XY"), ("", ""))
+
     def test_new_stands_there(self):
         self.assert_refused(Twice, *[(old, new) for old in "XYZ" for new in "XYZ"])
 
